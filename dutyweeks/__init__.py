@@ -1,0 +1,1 @@
+"""Dutyweeks: people dealt to shifts and duties, with papers."""

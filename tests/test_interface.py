@@ -1,0 +1,50 @@
+"""The interface: names, parameter names, and the file in which each function and class is defined."""
+
+import importlib
+import inspect
+import unittest
+
+# For each file the functions with their parameters, and the classes with those of each method.
+FUNCTIONS = {
+    "machines": {
+        "is_row": ["value", "letters"], "least": ["machine"], "same_rows": ["one", "other"],
+        "parting_row": ["one", "other"],
+    },
+    "rules": {
+        "is_rules": ["value", "letters"], "keeps": ["rules", "letters", "row"], "machine_of": ["rules", "letters"],
+    },
+    "tasks": {"fits": ["task", "weekday", "deal"]},
+}
+CLASSES = {
+    "machines": {"Machine": {"__init__": ["letters", "table"], "__len__": [], "__eq__": ["other"], "after": ["row"]}},
+    "tasks": {
+        "Task": {"__init__": ["machines", "wants"], "__eq__": ["other"]},
+        "Case": {"__init__": ["letters", "rules", "wants"], "__eq__": ["other"]},
+    },
+}
+
+
+def parameters(function):
+    return list(inspect.signature(function).parameters)
+
+
+class InterfaceTest(unittest.TestCase):
+    def test_functions(self):
+        for file, functions in FUNCTIONS.items():
+            module = importlib.import_module("dutyweeks." + file)
+            for name, expected in functions.items():
+                self.assertEqual(parameters(getattr(module, name)), expected)
+                self.assertEqual(getattr(module, name).__module__, module.__name__)
+
+    def test_classes(self):
+        for file, classes in CLASSES.items():
+            module = importlib.import_module("dutyweeks." + file)
+            for name, methods in classes.items():
+                own = getattr(module, name)
+                self.assertEqual(own.__module__, module.__name__)
+                for method, expected in methods.items():
+                    self.assertEqual(parameters(vars(own)[method]), ["self"] + expected)
+
+
+if __name__ == "__main__":
+    unittest.main()
