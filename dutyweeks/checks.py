@@ -1,5 +1,7 @@
 """What is asked of values of any kind before anything else is done with them."""
 
+from math import gcd
+
 
 def is_integer(value):
     """Whether value is an int that is not a bool."""
@@ -20,7 +22,25 @@ def are_ascending(value, bound):
     """Whether value is an ascending tuple of numbers below bound, perhaps ()."""
     if not isinstance(value, tuple) or not all([is_between(x, 0, bound - 1) for x in value]):
         return False
-    return all([value[k - 1] < value[k] for k in range(1, len(value))])
+    return rises(value)
+
+
+def rises(values):
+    """Whether each of the values, which can be compared, is more than the one ahead of it."""
+    return all([values[k - 1] < values[k] for k in range(1, len(values))])
+
+
+def is_ratio(value):
+    """Whether value is a ratio: a pair of integers in lowest terms, the second one above 0."""
+    if not is_tuple(value, 2, 2) or not all([is_integer(x) for x in value]):
+        return False
+    return value[1] > 0 and gcd(value[0], value[1]) == 1
+
+
+def lowest(a, b):
+    """The ratio that stands for a / b, b above 0."""
+    divisor = gcd(a, b)
+    return (a // divisor, b // divisor)
 
 
 def plain(value):

@@ -52,3 +52,20 @@ def is_plain(value):
     if isinstance(value, tuple):
         return type(value) is tuple and all(is_plain(x) for x in value)
     return True
+
+
+def changed(value):
+    """The value changed at one place: cut off, lengthened, or with another value there."""
+    if isinstance(value, tuple):
+        yield from (value[:-1], value[1:], value + value, value + value[-1:], value + (None,), list(value), None)
+        for k, member in enumerate(value):
+            yield value[:k] + value[k + 1:]
+            yield value[:k] + (member,) + value[k:]
+            if k:
+                yield value[:k - 1] + (member, value[k - 1]) + value[k + 1:]
+            for other in changed(member):
+                yield value[:k] + (other,) + value[k + 1:]
+    elif type(value) is int:
+        yield from (value + 1, value - 1, bool(value), None, str(value), (value,), [value], value + 10 ** 11)
+    else:
+        yield from (None, 0, (value,))

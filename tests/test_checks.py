@@ -2,7 +2,7 @@
 
 import unittest
 
-from dutyweeks.checks import are_ascending, is_between, is_integer, is_tuple, plain
+from dutyweeks.checks import are_ascending, is_between, is_integer, is_ratio, is_tuple, lowest, plain, rises
 from tests.samples import Tuple, is_plain, nested, odd_values
 
 
@@ -30,6 +30,28 @@ class ChecksTest(unittest.TestCase):
             self.assertIs(are_ascending(value, 6), False)
         for value in odd_values():
             self.assertIs(are_ascending(value, 6), False)
+
+    def test_rises(self):
+        for values in ((), [], (3,), (0, 1, 5), [(0, (1,)), (0, (2,)), (1, (0,))], ("rule", "want")):
+            self.assertIs(rises(values), True)
+        for values in ((1, 0), (0, 0), (0, 2, 1), [(0, (1,)), (0, (1,))], ("want", "rule")):
+            self.assertIs(rises(values), False)
+
+    def test_ratios(self):
+        for value in ((0, 1), (1, 1), (-3, 2), (7, 3), (10 ** 11, 10 ** 11 - 1), (5, 1)):
+            self.assertIs(is_ratio(value), True)
+        for value in ((0, 2), (2, 2), (4, 6), (-4, 6), (1, 0), (0, 0), (1, -1), (3, -2), (1,), (), (1, 1, 1), [1, 1],
+                      (True, 1), (1, True), (None, 1), (1, None), ("1", 1), ((1,), 1)):
+            self.assertIs(is_ratio(value), False)
+        for value in odd_values():
+            self.assertIs(is_ratio(value), False)
+
+    def test_lowest(self):
+        for a in range(-9, 10):
+            for b in range(1, 10):
+                self.assertIs(is_ratio(lowest(a, b)), True)
+                self.assertEqual(lowest(a, b)[0] * b, a * lowest(a, b)[1])
+        self.assertEqual(lowest(0, 7), (0, 1))
 
     def test_plain(self):
         value = Tuple([1, Tuple(["never", Tuple([0, 1])]), (Tuple(), 2)])

@@ -14,6 +14,21 @@ FUNCTIONS = {
         "is_rules": ["value", "letters"], "keeps": ["rules", "letters", "row"], "machine_of": ["rules", "letters"],
     },
     "tasks": {"fits": ["task", "weekday", "deal"]},
+    "rotas": {
+        "is_rota": ["task", "value"], "state_after": ["task", "rota"], "moves": ["task", "rota"], "reached": ["task"],
+    },
+    "rounds": {
+        "round_of": ["task"], "round_holds": ["task", "value"], "longest": ["task"], "heights": ["task"],
+        "heights_hold": ["task", "value"],
+    },
+    "cores": {
+        "parts": ["case"], "with_parts": ["case", "some"], "core": ["case"], "core_paper": ["case"],
+        "core_holds": ["case", "some", "paper"],
+    },
+    "means": {
+        "is_dislikes": ["task", "value"], "least_mean": ["task", "dislikes"], "mean_paper": ["task", "dislikes"],
+        "mean_holds": ["task", "dislikes", "mean", "value"],
+    },
 }
 CLASSES = {
     "machines": {"Machine": {"__init__": ["letters", "table"], "__len__": [], "__eq__": ["other"], "after": ["row"]}},
