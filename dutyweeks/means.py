@@ -159,13 +159,13 @@ def mean_holds(task, dislikes, mean, value):
     ahead, again, prices = value
     if not round_holds(task, (ahead, again)) or not are_marks(task, prices):
         return False
-    total = _sum_of(task, dislikes, len(ahead), again)
+    total = sum_behind(task, dislikes, len(ahead), again)
     if mean[1] * total != mean[0] * len(again):
         return False
     return _prices_hold(_costs_less_mean(_costs_of(graph_of(task), dislikes), mean), prices)
 
 
-def _sum_of(task, dislikes, days, deals):
+def sum_behind(task, dislikes, days, deals):
     """The dislikes of deals behind so many days."""
     weekdays = len(task.wants)
     return sum([dislikes_of(dislikes, (days + k) % weekdays, deals[k]) for k in range(len(deals))])

@@ -256,3 +256,123 @@ def core_paper(case, some, paper):
             round_(case_of(case, less(some, part)).task, value) for part, value in zip(some, paper[1]))
     except TooLarge:
         return False
+
+
+def beginnings(value):
+    return [value[:k] for k in range(len(value) + 1)]
+
+
+def lead_behind(loads, p, q, value):
+    """The difference of the sums of p's and q's loads in all of the deals."""
+    return abs(sum(loads[deal[p]] for deal in value) - sum(loads[deal[q]] for deal in value))
+
+
+def least_lead(task, loads, p, q, most=6):
+    """The least lead: the pairs of a state and a difference are looked at that always lead on to others of them."""
+    for lead in range(most + 1):
+        ways = {}
+        for state in reached(task):
+            for ahead in range(-lead, lead + 1):
+                onward = {(later, ahead + loads[deal[p]] - loads[deal[q]]) for deal, later in steps(task, state)}
+                ways[state, ahead] = {node for node in onward if abs(node[1]) <= lead}
+        while True:
+            ended = {node for node in ways if not ways[node]}
+            if not ended:
+                break
+            ways = {node: ways[node] - ended for node in ways if node not in ended}
+        if (start(task), 0) in ways:
+            return lead
+    return None
+
+
+def lead(task, loads, p, q, lead, value):
+    """Whether value is a round that keeps the lead; loads, p, q and lead are taken to be such."""
+    if not round_(task, value):
+        return False
+    ahead, again = value
+    if sum(loads[deal[p]] for deal in again) != sum(loads[deal[q]] for deal in again):
+        return False
+    return all(lead_behind(loads, p, q, days) <= lead for days in beginnings(ahead + again))
+
+
+def total(dislikes, value):
+    return sum(dislikes_of(dislikes, day, deal) for day, deal in enumerate(value))
+
+
+def best(task, dislikes, n):
+    """The first of all rotas of n days with the least dislikes, None if there is none."""
+    found = rotas(task, n)
+    least = min([total(dislikes, value) for value in found], default=None)
+    return next((value for value in found if total(dislikes, value) == least), None)
+
+
+def prices(task, dislikes, n, rota_, value):
+    """Whether value is prices for n days with the dislikes of this rota; dislikes and n are taken to be such."""
+    if not rota(task, rota_) or len(rota_) != n or type(value) is not tuple or len(value) != n + 1:
+        return False
+    found = [marks(task, pairs) for pairs in value]
+    for k in range(n + 1):
+        there = {state_behind(task, ahead) for ahead in rotas(task, k)}
+        if found[k] is None or set(found[k]) != there:
+            return False
+    if found[0][start(task)] != total(dislikes, rota_) or any(price > 0 for price in found[n].values()):
+        return False
+    return all(found[k][state] <= dislikes_of(dislikes, k, deal) + found[k + 1][later]
+               for k in range(n) for state in found[k] for deal, later in steps(task, state))
+
+
+def has(value, fixed):
+    return all(value[day][person] == letter for day, person, letter in fixed)
+
+
+def rotas_with(task, n, fixed):
+    return [value for value in rotas(task, n) if has(value, fixed)]
+
+
+def places(task, n):
+    return list(itertools.product(range(n), range(len(task.machines))))
+
+
+def forced(task, n, fixed):
+    found = rotas_with(task, n, fixed)
+    told = [(day, person, {value[day][person] for value in found}) for day, person in places(task, n)]
+    return tuple((day, person, min(letters)) for day, person, letters in told if len(letters) == 1)
+
+
+def unlike(one, other):
+    return sum(a != b for here, there in zip(one, other) for a, b in zip(here, there))
+
+
+def nearest(task, n, fixed, old):
+    return min(rotas_with(task, n, fixed), key=lambda value: (unlike(value, old), value), default=None)
+
+
+def walls(task, n, fixed, value):
+    """Whether value is walls; n and fixed are taken to be such."""
+    if type(value) is not tuple or len(value) != n + 1 or not all(type(states) is tuple for states in value):
+        return False
+    there = all_states(task)
+    if not all(is_plain_numbers(states) and set(states) <= set(there) for states in value):
+        return False
+    if not all(list(states) == sorted(set(states)) for states in value):
+        return False
+    if start(task) not in value[0] or value[n]:
+        return False
+    for k in range(n):
+        held = [(person, letter) for day, person, letter in fixed if day == k]
+        for state in value[k]:
+            for deal, later in steps(task, state):
+                if all(deal[person] == letter for person, letter in held) and later not in value[k + 1]:
+                    return False
+    return True
+
+
+def random_fixed(source, task, n, most=3):
+    """Some triples of a day, a person and a letter, ascending."""
+    there = places(task, n)
+    chosen = sorted(source.sample(there, min(len(there), source.randint(0, most))))
+    return tuple((day, person, source.randrange(task.machines[0].letters)) for day, person in chosen)
+
+
+def random_deals(source, task, n):
+    return tuple(source.choice(deals_of(task)) for _ in range(n))

@@ -29,6 +29,21 @@ FUNCTIONS = {
         "is_dislikes": ["task", "value"], "least_mean": ["task", "dislikes"], "mean_paper": ["task", "dislikes"],
         "mean_holds": ["task", "dislikes", "mean", "value"],
     },
+    "leads": {
+        "least_lead": ["task", "loads", "p", "q"], "lead_round": ["task", "loads", "p", "q"],
+        "lead_holds": ["task", "loads", "p", "q", "lead", "value"],
+    },
+    "spans": {
+        "count": ["task", "n"], "best": ["task", "dislikes", "n"], "best_paper": ["task", "dislikes", "n"],
+        "best_holds": ["task", "dislikes", "n", "rota", "value"],
+    },
+    "changes": {
+        "is_fixed": ["task", "n", "value"], "forced": ["task", "n", "fixed"], "nearest": ["task", "n", "fixed", "old"],
+        "walls": ["task", "n", "fixed"], "walls_hold": ["task", "n", "fixed", "value"],
+    },
+    "posts": {
+        "filled": ["skills", "posts"], "short_posts": ["skills", "posts"], "short_holds": ["skills", "posts", "value"],
+    },
 }
 CLASSES = {
     "machines": {"Machine": {"__init__": ["letters", "table"], "__len__": [], "__eq__": ["other"], "after": ["row"]}},
