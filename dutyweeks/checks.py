@@ -48,3 +48,12 @@ def plain(value):
     if not isinstance(value, tuple):
         return value
     return tuple([plain(x) for x in value])
+
+
+def is_same(value, told):
+    """Whether value is equal to told, which is of plain tuples, strings and integers alone; a bool is equal to none."""
+    if not isinstance(told, tuple):
+        return value == told and not isinstance(value, bool)
+    if not isinstance(value, tuple) or len(value) != len(told):
+        return False
+    return all([is_same(one, other) for one, other in zip(value, told)])

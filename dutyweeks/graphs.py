@@ -51,3 +51,14 @@ def way_to(graph, node, goals):
                     longer.append((deals + (deal,), later))
         ends = longer
     return None
+
+
+def longest_way(graph, days, node):
+    """The deals of a longest way from the node, which is one of days, that is, of those from which all ways end."""
+    deals = []
+    now = node
+    while graph[now]:
+        longest_steps = [step for step in graph[now] if days[step[1]] == days[now] - 1]
+        deal, now = longest_steps[0]
+        deals.append(deal)
+    return tuple(deals)

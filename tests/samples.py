@@ -69,3 +69,28 @@ def changed(value):
         yield from (value + 1, value - 1, bool(value), None, str(value), (value,), [value], value + 10 ** 11)
     else:
         yield from (None, 0, (value,))
+
+
+def own(value):
+    """The value with each tuple in it, itself too, of a class of its own."""
+    return Tuple([own(x) for x in value]) if isinstance(value, tuple) else value
+
+
+# Cases that end behind many days: how many, and the case.
+LONG_CASES = [
+    (25, Case(2, (
+        (("every", 0, 4), ("never", (1, 0, 0)), ("least", 1, 2)),
+        (("least", 1, 2), ("most", 1, 2), ("every", 1, 4), ("least", 0, 2))),
+        ((), ((1, (0, 1), 1, 1), (1, (1,), 0, 1), (1, (0, 1), 1, 2)), ()))),
+    (27, Case(2, (
+        (("never", (0, 0)),), (("most", 0, 2), ("never", (1, 1)), ("least", 0, 2)),
+        (("never", (1, 1, 0)), ("least", 0, 2), ("every", 1, 4), ("least", 0, 2))),
+        (((1, (0,), 1, 1),), ((1, (1,), 0, 1), (1, (0, 2), 1, 2), (1, (0,), 1, 1)),
+         ((0, (0,), 1, 1), (1, (2,), 0, 1), (1, (1, 2), 0, 2)), ((0, (0, 1, 2), 1, 1), (1, (0,), 1, 1))))),
+    (29, Case(2, (
+        (("least", 0, 3), ("most", 0, 3), ("least", 1, 2), ("never", (1, 1, 1))), (("least", 1, 3), ("most", 1, 3))),
+        ((), ((1, (0, 1), 1, 1),), (), ((1, (1,), 1, 1),)))),
+    (23, Case(2, (
+        (("every", 1, 2), ("every", 0, 2)), (("most", 0, 3), ("most", 1, 2), ("least", 0, 3), ("least", 1, 2))),
+        ((), ((0, (0,), 0, 1),), ((0, (0, 1), 1, 2), (1, (1,), 0, 1), (1, (0,), 0, 1))))),
+]

@@ -2,8 +2,8 @@
 
 import unittest
 
-from dutyweeks.checks import are_ascending, is_between, is_integer, is_ratio, is_tuple, lowest, plain, rises
-from tests.samples import Tuple, is_plain, nested, odd_values
+from dutyweeks.checks import are_ascending, is_between, is_integer, is_ratio, is_same, is_tuple, lowest, plain, rises
+from tests.samples import Tuple, changed, is_plain, nested, odd_values, own
 
 
 class ChecksTest(unittest.TestCase):
@@ -58,6 +58,18 @@ class ChecksTest(unittest.TestCase):
         self.assertEqual(plain(value), (1, ("never", (0, 1)), ((), 2)))
         self.assertTrue(is_plain(plain(value)))
         self.assertEqual(plain(nested(60)), nested(60))
+
+    def test_same(self):
+        told = ("cell", 3, ((0, 1, 1),), 0, 1)
+        for value in (told, own(told), ("cell", 3, Tuple(told[2]), 0, 1)):
+            self.assertIs(is_same(value, told), True)
+        for value in list(changed(told)) + odd_values() + [list(told), ("cell", 3, ([0, 1, 1],), 0, 1)]:
+            self.assertIs(is_same(value, told), repr(value) == repr(told))
+        for value in (True, False, None, "", [], ()):
+            self.assertIs(is_same(value, 1), False)
+            self.assertIs(is_same(value, 0), False)
+            self.assertIs(is_same(value, ()), value == ())
+        self.assertIs(is_same((0,) * 30000, told), False)
 
 
 if __name__ == "__main__":

@@ -3,7 +3,7 @@
 import random
 import unittest
 
-from dutyweeks.graphs import days_left, round_from, way_to
+from dutyweeks.graphs import days_left, longest_way, round_from, way_to
 
 # From 0 ways end by 1 or 2; from 3 on they may go round 4 and 5, or end.
 GRAPH = {
@@ -44,6 +44,12 @@ class GraphsTest(unittest.TestCase):
         self.assertEqual(way_to(GRAPH, 3, [2, 1]), (("a", "a"), 1))
         self.assertIsNone(way_to(GRAPH, 0, [3, 4]))
         self.assertIsNone(way_to(GRAPH, 3, []))
+
+    def test_longest_way(self):
+        days = days_left(GRAPH)
+        for node, deals in ((0, ("b", "a")), (1, ()), (2, ("a",)), (6, ())):
+            self.assertEqual(longest_way(GRAPH, days, node), deals)
+        self.assertEqual(longest_way({0: [("a", 2), ("b", 1)], 1: [("c", 2)], 2: []}, {0: 2, 1: 1, 2: 0}, 0), ("b", "c"))
 
 
 if __name__ == "__main__":

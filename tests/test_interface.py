@@ -44,12 +44,32 @@ FUNCTIONS = {
     "posts": {
         "filled": ["skills", "posts"], "short_posts": ["skills", "posts"], "short_holds": ["skills", "posts", "value"],
     },
+    "duties": {
+        "is_duties": ["jobs", "rest", "value"], "crews": ["jobs", "rest"], "duties": ["jobs", "rest"],
+        "apart_jobs": ["jobs", "rest"], "apart_holds": ["jobs", "rest", "many", "value"],
+        "cost_of": ["jobs", "rest", "pay", "idle", "value"], "cheapest": ["jobs", "rest", "pay", "idle"],
+        "job_prices": ["jobs", "rest", "pay", "idle"],
+        "job_prices_hold": ["jobs", "rest", "pay", "idle", "cost", "value"],
+    },
+    "claims": {
+        "is_question": ["case", "value"], "is_claim": ["case", "value"], "answer_of": ["case", "question"],
+        "question_of": ["case", "claim"],
+    },
+    "papers": {"paper_of": ["case", "question"], "claim_holds": ["case", "claim", "paper"]},
+    "desk": {"same_state": ["one", "other"]},
 }
 CLASSES = {
     "machines": {"Machine": {"__init__": ["letters", "table"], "__len__": [], "__eq__": ["other"], "after": ["row"]}},
     "tasks": {
         "Task": {"__init__": ["machines", "wants"], "__eq__": ["other"]},
         "Case": {"__init__": ["letters", "rules", "wants"], "__eq__": ["other"]},
+    },
+    "desk": {
+        "Desk": {
+            "__init__": ["case"], "bind": ["person", "rule"], "loose": ["person", "k"], "ask": ["weekday", "want"],
+            "spare": ["weekday", "k"], "longer": ["row"], "shorter": [], "watch": ["question"], "leave": ["question"],
+            "undo": [], "redo": [], "claim": ["question"], "paper": ["question"], "report": [],
+        },
     },
 }
 

@@ -6,7 +6,7 @@ import unittest
 
 from dutyweeks.errors import InvalidPosts, InvalidSkills, Undefined
 from dutyweeks.posts import filled, short_holds, short_posts
-from tests import reckon_posts as reckon
+from tests import reckon_day as reckon
 from tests.samples import Tuple, changed, is_plain, odd_values
 
 NO_SKILLS = (
